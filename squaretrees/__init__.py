@@ -1,0 +1,1 @@
+"""Shortest right-angled trees through points."""
