@@ -3,10 +3,9 @@
 Each one gives back its answer, and sets the points only once no refusal is due.
 """
 
-from squaretrees.plane import all_in_range, has_point, in_range
+from squaretrees.plane import all_in_range, has_point, has_room, in_range, without_point
 from squaretrees.refusals import BAD_NUMBER, NO_ROOM, NO_SUCH_POINT, OUT_OF_RANGE
 
-MOST_POINTS = 7
 MOST_TIMES = 1000
 
 
@@ -25,7 +24,7 @@ def add_point(net, arguments):
     y = arguments[1]
     if not in_range(x, y):
         return [OUT_OF_RANGE]
-    if len(net.points) == MOST_POINTS:
+    if not has_room(net.points):
         return [NO_ROOM]
     net.points = net.points + [(x, y)]
     return [len(net.points) - 1]
@@ -35,7 +34,7 @@ def remove_point(net, arguments):
     i = arguments[0]
     if not has_point(net.points, i):
         return [NO_SUCH_POINT]
-    net.points = net.points[:i] + net.points[i + 1:]
+    net.points = without_point(net.points, i)
     return [len(net.points)]
 
 

@@ -24,3 +24,7 @@ def pairs_taken(points):
             taken.append((length, i, j))
             groups = merged(groups, groups[i], groups[j])
     return taken
+
+
+def pairs_length(pairs):
+    return sum([length for length, i, j in pairs])

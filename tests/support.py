@@ -1,5 +1,6 @@
 """What the tests share: calls by name, and answers taken apart call by call."""
 
+import random
 import unittest
 
 from squaretrees.net import answers
@@ -60,6 +61,54 @@ def span():
     return [12]
 
 
+def steiner():
+    return [13]
+
+
+def tree():
+    return [14]
+
+
+def joints():
+    return [15]
+
+
+def bends():
+    return [16]
+
+
+def with_point(x, y):
+    return [17, x, y]
+
+
+def without_point(i):
+    return [18, i]
+
+
+def ratio():
+    return [19]
+
+
+def median():
+    return [20]
+
+
+def star(x, y):
+    return [21, x, y]
+
+
+def trunk(d):
+    return [22, d]
+
+
+def chain():
+    return [23]
+
+
+def ring():
+    return [24]
+
+
 def ask(calls):
     """Answers the calls as one list of numbers, and gives back a list of answers, one a call."""
     given = answers([number for call in calls for number in call])
@@ -74,6 +123,19 @@ def ask(calls):
 
 def adds(places):
     return [add(x, y) for x, y in places]
+
+
+def distance(here, there):
+    return abs(here[0] - there[0]) + abs(here[1] - there[1])
+
+
+def scattered(seed, sizes, reaches, times):
+    """Lists of places with chance in them, the same ones at each run: for each size and reach so many times."""
+    source = random.Random(seed)
+    for size in sizes:
+        for reach in reaches:
+            for again in range(times):
+                yield [(source.randint(-reach, reach), source.randint(-reach, reach)) for i in range(size)]
 
 
 def told(places):

@@ -38,6 +38,13 @@ NOT_WORDS = re.compile(
     r"\b(type|typing|typing_extensions|enum|Enum|IntEnum|StrEnum|Flag|IntFlag|Generic|Protocol|ABC|ABCMeta|namedtuple|"
     r"NamedTuple|TypedDict|TYPE_CHECKING|abstractmethod)\b|dataclass|overload|contextmanager"
 )
+KEYWORDS = {
+    "sorted": ("key", "reverse"), "min": ("key", "default"), "max": ("key", "default"), "sum": ("start",),
+    "enumerate": ("start",), "zip": ("strict",),
+}
+WALKED = ("zip", "enumerate", "reversed", "range", "items", "keys", "values")
+WALKERS = ("list", "tuple", "dict", "sorted", "sum", "any", "all", "enumerate", "zip", "min", "max", "join")
+READERS = ("len", "list", "dict", "tuple", "sorted", "sum", "min", "max", "any", "all")
 NAME = re.compile(r"[A-Za-z][A-Za-z0-9_]*")
 
 
@@ -51,6 +58,22 @@ def nodes(kind):
         for node in ast.walk(ast.parse(text)):
             if isinstance(node, kind):
                 yield node, f"{name}:{getattr(node, 'lineno', 0)}"
+
+
+def nodes_within(kind):
+    """All nodes of a kind, each with the node it stands in and a text that tells where."""
+    for name, text in sources().items():
+        for outer in ast.walk(ast.parse(text)):
+            for node in ast.iter_child_nodes(outer):
+                if isinstance(node, kind):
+                    yield node, outer, f"{name}:{getattr(node, 'lineno', 0)}"
+
+
+def called(node):
+    """The name of what a node calls, or an empty text if it is no call."""
+    if not isinstance(node, ast.Call):
+        return ""
+    return node.func.attr if isinstance(node.func, ast.Attribute) else getattr(node.func, "id", "")
 
 
 def bound_names(tree):
@@ -174,6 +197,73 @@ class Names(unittest.TestCase):
         for node, where in nodes(ast.Call):
             if isinstance(node.func, ast.Attribute):
                 self.assertIn(node.func.attr, METHODS + own, where)
+
+
+class Uses(unittest.TestCase):
+    def test_keywords(self):
+        for node, where in nodes(ast.Call):
+            for keyword in node.keywords:
+                self.assertIn(keyword.arg, KEYWORDS.get(called(node), ()), where)
+
+    def test_is_beside_none_true_and_false_alone(self):
+        for node, where in nodes(ast.Compare):
+            if any(isinstance(sign, (ast.Is, ast.IsNot)) for sign in node.ops):
+                sides = [side.value for side in [node.left] + node.comparators if isinstance(side, ast.Constant)]
+                self.assertTrue([side for side in sides if side is None or isinstance(side, bool)], where)
+
+    def test_numbers_and_texts(self):
+        for node, where in nodes(ast.BinOp):
+            if isinstance(node.op, ast.Pow):
+                self.assertIn(getattr(node.right, "value", None), range(65), where)
+        for node, where in nodes(ast.Constant):
+            if isinstance(node.value, str):
+                self.assertNotIn("%", node.value, where)
+
+    def test_walked_on_the_spot(self):
+        for node, outer, where in nodes_within(ast.Call):
+            if called(node) in WALKED:
+                walked = isinstance(outer, (ast.For, ast.comprehension)) and outer.iter is node
+                handed = called(outer) in WALKERS and outer.args[0] is node
+                self.assertTrue(walked or handed, where)
+
+    def test_sets_are_neither_kept_nor_walked(self):
+        for node, outer, where in nodes_within((ast.Call, ast.Set, ast.BinOp)):
+            parts = [called(part) for part in ast.iter_child_nodes(node)] if isinstance(node, ast.BinOp) else []
+            if called(node) in ("set", "frozenset") or isinstance(node, ast.Set) or "set" in parts:
+                sorted_or_counted = called(outer) in ("sorted", "len") and not outer.keywords
+                self.assertTrue(sorted_or_counted or isinstance(outer, (ast.Compare, ast.BinOp)), where)
+
+    def test_lists_and_dicts_of_a_files_top_are_only_read(self):
+        kept = []
+        for name, text in sources().items():
+            for row in ast.parse(text).body:
+                if isinstance(row, ast.Assign) and isinstance(row.value, (ast.List, ast.Dict)):
+                    kept.append(row.targets[0].id)
+                    within = [node for node in ast.walk(row.value) if isinstance(node, (ast.List, ast.Dict))]
+                    self.assertEqual(len(within), 1, f"{name}:{row.lineno}")
+        for node, outer, where in nodes_within(ast.Name):
+            if node.id in kept and isinstance(node.ctx, ast.Load):
+                indexed = isinstance(outer, ast.Subscript) and isinstance(outer.ctx, ast.Load)
+                walked = isinstance(outer, (ast.For, ast.comprehension, ast.Compare)) or called(outer) in READERS
+                got = isinstance(outer, ast.Attribute) and outer.attr in ("get", "items", "keys", "values", "copy")
+                self.assertTrue(indexed or walked or got, where)
+
+    def test_errors_are_taken_by_name(self):
+        for node, where in nodes(ast.ExceptHandler):
+            self.assertIsNotNone(node.type, where)
+            named = [part.id for part in ast.walk(node.type) if isinstance(part, ast.Name)]
+            self.assertFalse({"Exception", "TypeError"} & set(named), where)
+
+
+class Objects(unittest.TestCase):
+    def test_no_name_is_a_method_and_a_value(self):
+        methods = [
+            part.name for node, where in nodes(ast.ClassDef) for part in node.body if isinstance(part, ast.FunctionDef)
+        ]
+        given = [node.attr for node, where in nodes(ast.Attribute) if isinstance(node.ctx, ast.Store)]
+        self.assertEqual(set(methods) & set(given), set())
+        taken = [name for own in (str, int, list, dict, set, bytes, range, slice) for name in dir(own)]
+        self.assertEqual(set(given) & set(taken), set())
 
 
 if __name__ == "__main__":

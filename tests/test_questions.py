@@ -1,10 +1,9 @@
 """The calls 8 to 12, which ask about the points."""
 
 import itertools
-import random
 import unittest
 
-from tests.support import FAR, LIMIT, CallCase, adds, ask, box, dist, half, points, span, told
+from tests.support import FAR, LIMIT, CallCase, box, dist, distance, half, points, scattered, span, told
 
 THREE = [(1, 2), (-3, 4), (5, -6)]
 SEVEN = [(0, 0), (1, 10), (2, 20), (3, 30), (4, 40), (5, 50), (6, 60)]
@@ -83,8 +82,7 @@ def joined(taken, i, j):
 
 def span_by_the_words(places):
     def length(pair):
-        (ax, ay), (bx, by) = places[pair[0]], places[pair[1]]
-        return abs(ax - bx) + abs(ay - by)
+        return distance(places[pair[0]], places[pair[1]])
 
     taken = []
     for pair in sorted(itertools.combinations(range(len(places)), 2), key=length):
@@ -121,13 +119,8 @@ class Span(CallCase):
         self.check(far, span(), [7 * LIMIT, 6, 0, 5, 0, 6, 1, 6, 2, 5, 4, 5, 1, 3])
 
     def test_against_the_words(self):
-        source = random.Random(12)
-        for size in range(8):
-            for reach in [1, 2, 4, 50]:
-                for again in range(12):
-                    places = [(source.randint(-reach, reach), source.randint(-reach, reach)) for i in range(size)]
-                    with self.subTest(places=places):
-                        self.assertEqual(ask(adds(places) + [span()])[-1], span_by_the_words(places))
+        for places in scattered(12, range(8), [1, 2, 4, 50], 12):
+            self.check(places, span(), span_by_the_words(places))
 
 
 if __name__ == "__main__":
